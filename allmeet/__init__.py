@@ -1,0 +1,1 @@
+"""Allmeet: settings told by many hands."""
