@@ -23,7 +23,7 @@ WRITTEN = (
     ("{a: 1, b: true}", ("record", (("a", 1), ("b", True)))),
     ('{a: "", aa: "b", ab: [], b: {}}',
      ("record", (("a", ""), ("aa", "b"), ("ab", ("list", ())), ("b", ("record", ()))))),
-    ("{true: false}", ("record", (("true", False),))),
+    ("{true: false}", ("record", (("true", False),))), ("{abcdefghij: 1}", ("record", (("abcdefghij", 1),))),
     ('{a: {b: [1, {c: "x"}]}, z: -7}',
      ("record", (("a", ("record", (("b", ("list", (1, ("record", (("c", "x"),))))),))), ("z", -7)))),
 )
