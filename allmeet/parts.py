@@ -92,6 +92,19 @@ def ends_first(one, other):
     return one[1] is not None and (other[1] is None or one[1] < other[1])
 
 
+# All numbers but these.
+def gaps_of(numbers):
+    gaps = []
+    low = None
+    for stretch in numbers:
+        if stretch[0] is not None:
+            gaps.append((low, stretch[0] - 1))
+        if stretch[1] is None:
+            return tuple(gaps)
+        low = stretch[1] + 1
+    return tuple(gaps + [(low, None)])
+
+
 def meet_texts(one, other):
     if one[0] == "of" and other[0] == "of":
         return ("of", in_both(one[1], other[1]))
@@ -115,6 +128,11 @@ def marked(texts):
     return dict([(text, True) for text in texts])
 
 
+# In order, each once.
+def rising_texts(texts):
+    return tuple(sorted(marked(texts), key=text_order))
+
+
 def in_both(one, other):
     there = marked(other)
     return tuple([text for text in one if text in there])
@@ -126,4 +144,4 @@ def without(one, other):
 
 
 def in_either(one, other):
-    return tuple(sorted(one + without(other, one), key=text_order))
+    return rising_texts(one + other)

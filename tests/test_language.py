@@ -113,6 +113,26 @@ class Form(unittest.TestCase):
                 if isinstance(node, ast.Name) and node.id in dir(builtins):
                     self.assertIn(node.id, OWN_NAMES, f"{name}:{node.lineno}")
 
+    def test_no_local_is_called_like_an_import(self):
+        for name, tree in trees():
+            drawn = [part.name for node in tree.body if isinstance(node, ast.ImportFrom) for part in node.names]
+            for bound, line in bound_names(tree):
+                self.assertNotIn(bound, drawn, f"{name}:{line}")
+
+    def test_sets_are_not_kept(self):
+        for name, tree in trees():
+            parents = {child: node for node in ast.walk(tree) for child in ast.iter_child_nodes(node)}
+            for node in ast.walk(tree):
+                if isinstance(node, ast.Call) and ast.unparse(node.func) in ("set", "frozenset"):
+                    around = parents[node]
+                    while isinstance(around, ast.BinOp):
+                        around = parents[around]
+                    if isinstance(around, ast.Call):
+                        self.assertIn(around.func.id, ("sorted", "len"), f"{name}:{node.lineno}")
+                        self.assertEqual(around.keywords, [], f"{name}:{node.lineno}")
+                    else:
+                        self.assertIsInstance(around, ast.Compare, f"{name}:{node.lineno}")
+
     def test_is_stands_beside_none_and_truths(self):
         for name, tree in trees():
             for node in ast.walk(tree):
