@@ -10,7 +10,7 @@ from allmeet.setnotes import read_set, show_set
 from allmeet.sets import is_set, set_of
 from allmeet.valuenotes import show_value
 from things import (
-    NONE, NUMBERS, TEXTS, TRUTHS, lists, number, raw, records, some_sets, some_values, texts_but, texts_of,
+    NONE, NUMBERS, TEXTS, TRUTHS, is_told, lists, number, raw, records, some_sets, some_values, texts_but, texts_of,
 )
 
 BIG = 10 ** 20
@@ -154,45 +154,6 @@ REFUSED = (
     "#", "\\", "1#", "\0", "\ud800", "\ufeff1", "[1]\n", "1..2\n", "{a:\n1}", "[1,\n2]", "[1,\u00a02]", "any;",
     "1 or 2 or", "-", "?",
 )
-
-
-NUM = r"(?:0|-?[1-9][0-9]{0,39})"
-TEXT = r'"[a-z]*"'
-LEAF = rf"{NUM}(?:\.\.(?:{NUM})?)?|\.\.{NUM}|{TEXT}|text(?: but(?: {TEXT})+)?|number|truth|true|false"
-
-
-def word_form(deep):
-    """A regex of one word with at most so many lists and records within one another."""
-    if deep == 0:
-        return rf"(?:{LEAF}|\[\]|\{{\}})"
-    word = word_form(deep - 1)
-    inner = rf"(?:any|nothing|{word}|\({word}(?: or {word})+\))"
-    field = rf"[a-z]+\??: {inner}"
-    more = rf"\.\. {inner}"
-    return (rf"(?:{LEAF}|\[(?:(?:{inner}, )*(?:{inner}|{more}))?\]"
-            rf"|\{{(?:(?:{field}, )*(?:{field}|{more}))?\}})")
-
-
-FORM = re.compile(rf"any|nothing|{word_form(2)}(?: or {word_form(2)})*")
-
-
-def is_told(text):
-    """Whether a text with at most two lists and records round a leaf is one to be read, by another way."""
-    if FORM.fullmatch(text) is None:
-        return False
-    if any(int(low) > int(high) for low, high in re.findall(rf"({NUM})\.\.({NUM})", text)):
-        return False
-    within = []
-    for sign, name in re.findall(r"([\[\]{}])|([a-z]+)\??: ", text):
-        if sign in tuple("[{"):
-            within.append([])
-        elif sign:
-            within.pop()
-        elif name in within[-1]:
-            return False
-        else:
-            within[-1].append(name)
-    return True
 
 
 def wrapped(deep, leaf, way):
