@@ -19,8 +19,8 @@ def settled(tellings):
 
 
 # By class what is left of it, not looking at what is left of its fields; of
-# tellings without a ring. A class of a group that is not barred has no fields,
-# so groups can be met behind all else.
+# tellings without a ring. A class of a group that has fields is left with
+# nothing already, so groups can be met behind all else.
 def sets_left(web, tellings):
     left = own_sets(web, tellings)
     for head in web.order:
@@ -35,9 +35,8 @@ def own_sets(web, tellings):
         if web.fields[head] or head == web.class_of(0):
             own[head] = meet(own[head], kind_set("record"))
     for numbers, holds in web.groups:
-        barred = not holds or any([len(web.fields[head]) > 0 for head in numbers])
         for head in numbers:
-            own[head] = NOTHING if barred else meet(own[head], kind_set("number"))
+            own[head] = meet(own[head], kind_set("number"))
     return own
 
 
@@ -67,7 +66,7 @@ def set_of_field(some, name):
 def met_in_groups(web, sets):
     found = dict(sets)
     for numbers, holds in web.groups:
-        common = kind_set("number")
+        common = kind_set("number") if holds else NOTHING
         for head in numbers:
             common = meet(common, moved(sets[head], -numbers[head]))
         for head in numbers:

@@ -5,6 +5,7 @@ import itertools
 import random
 import unittest
 
+from allmeet.errors import MeetError
 from allmeet.places import apart, classes, places, ring
 from allmeet.tellings import read_telling, show_telling
 from things import chance_rows, slow_classes, slow_ring, slow_steps
@@ -154,6 +155,11 @@ class Places(unittest.TestCase):
         self.assertEqual(ring(row + told("z.x.y.z = k")), ("j", "l"))
         self.assertEqual(ring([("same", (one, "x"), (other,), 0) for one, other in zip(letters, letters[1:] + "a")]),
             ("a",))
+
+    def test_places_of_a_ring_are_not_gone_through_without_end(self):
+        for call in (places, classes):
+            with self.assertRaises(MeetError):
+                call(told("a = a.x"))
 
     def test_by_a_second_way(self):
         chance = random.Random(23)

@@ -80,6 +80,8 @@ MET = (
     (("a.l = b", "a.r = b", "b in 1..2"), "a in {l: 1..2, r: 1..2, .. any}; a.l in 1..2; a.r in 1..2; b in 1..2"),
     (("a in {x?: nothing, .. any}", "a.y in 1"), "a in {x?: nothing, y: 1, .. any}; a.y in 1"),
     (("a only x y", "a.x in 1"), "a in {x: 1, y?: any}; a.x in 1"),
+    (("a in {m: 1, z?: 2, .. any}", "a.x in 3", "a.b in 4"),
+     "a in {b: 4, m: 1, x: 3, z?: 2, .. any}; a.b in 4; a.x in 3"),
     (("a = b", "b only x", "a.x in any"), "a in {x: any}; a.x in any; b in {x: any}; b.x in any"),
     (("a.x in {y: 1, .. any}", "a.x.z in 2", "a in {.. {.. number}}"),
      "a in {x: {y: 1, z: 2, .. number}, .. {.. number}}; a.x in {y: 1, z: 2, .. number}; a.x.z in 2"),
@@ -215,6 +217,7 @@ class SecondWays(unittest.TestCase):
         for row in chance_rows(random.Random(26), 1000, longest=4, bounded=0):
             outcome = settled(row)
             if outcome[0] == "met":
+                self.assertTrue(all(is_set(some) for path, some in outcome[1]), row)
                 left = slow_left(row, meet)
                 self.assertEqual([path for path, some in outcome[1]], sorted(slow_classes(row)))
                 for path, some in outcome[1]:
