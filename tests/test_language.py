@@ -47,6 +47,11 @@ def bound_names(tree):
             yield node.arg, node.lineno
 
 
+def methods_of(tree):
+    return [part for node in tree.body if isinstance(node, ast.ClassDef)
+            for part in node.body if isinstance(part, ast.FunctionDef)]
+
+
 def top_names(tree):
     found = []
     for node in tree.body:
@@ -116,8 +121,19 @@ class Form(unittest.TestCase):
     def test_no_local_is_called_like_an_import(self):
         for name, tree in trees():
             drawn = [part.name for node in tree.body if isinstance(node, ast.ImportFrom) for part in node.names]
+            methods = [(method.name, method.lineno) for method in methods_of(tree)]
             for bound, line in bound_names(tree):
-                self.assertNotIn(bound, drawn, f"{name}:{line}")
+                if (bound, line) not in methods:
+                    self.assertNotIn(bound, drawn, f"{name}:{line}")
+
+    def test_no_name_is_a_method_and_a_value(self):
+        methods = [method.name for name, tree in trees() for method in methods_of(tree)]
+        for name, tree in trees():
+            for node in ast.walk(tree):
+                if isinstance(node, ast.Attribute) and isinstance(node.ctx, ast.Store):
+                    self.assertNotIn(node.attr, methods + METHODS, f"{name}:{node.lineno}")
+                    for kind in (str, int, list, dict, set, bytes):
+                        self.assertFalse(hasattr(kind, node.attr), f"{name}:{node.lineno}")
 
     def test_sets_are_not_kept(self):
         for name, tree in trees():
@@ -141,8 +157,7 @@ class Form(unittest.TestCase):
                     self.assertIn(repr(node.comparators[0].value), ("None", "True", "False"), f"{name}:{node.lineno}")
 
     def test_methods(self):
-        own = [part.name for name, tree in trees() for node in tree.body if isinstance(node, ast.ClassDef)
-               for part in node.body if isinstance(part, ast.FunctionDef)]
+        own = [method.name for name, tree in trees() for method in methods_of(tree)]
         for name, tree in trees():
             for node in ast.walk(tree):
                 if isinstance(node, ast.Call) and isinstance(node.func, ast.Attribute):
